@@ -1,0 +1,1 @@
+"""Mapstack: source maps of texts that tools make from one another."""

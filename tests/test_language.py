@@ -1,0 +1,181 @@
+"""The package keeps to the rules of the language subset, as far as a short check can tell."""
+
+import ast
+import os
+import re
+import unittest
+
+FOLDER = os.path.join(os.path.dirname(os.path.dirname(os.path.abspath(__file__))), "mapstack")
+BUILTINS = set(
+    "len range enumerate zip min max sum abs sorted reversed int str bool list tuple dict set isinstance ord repr any"
+    " all divmod ValueError TypeError KeyError IndexError LookupError OverflowError RuntimeError NotImplemented"
+    " super property staticmethod classmethod".split()
+)
+METHODS = set(
+    "append clear copy count endswith extend find get index insert isalnum isalpha isdigit islower isspace isupper"
+    " items join keys ljust lower lstrip partition pop remove replace reverse rfind rjust rpartition rsplit rstrip"
+    " setdefault split splitlines startswith strip update upper values zfill bit_length isascii".split()
+)
+DUNDERS = set(
+    "__init__ __eq__ __len__ __call__ __iter__ __add__ __or__ __contains__ __getitem__ __bool__".split()
+)
+BARRED = set(
+    "type typing typing_extensions enum Enum IntEnum StrEnum Flag IntFlag Generic Protocol ABC ABCMeta namedtuple"
+    " NamedTuple TypedDict TYPE_CHECKING abstractmethod".split()
+)
+NEVER = set("register mro elements open input law version_info with_traceback add_note".split())
+INTERFACE = {
+    "errors": "BadPlace BadText BadSegment BadName BadNumber BadMap BadEdit BadPart BadBuilder BadAlphabet BadProgram"
+              " NothingLeft Clash Stale Ring TooLarge NoText NoPlace NoLevel MapError StackError BoundError AbsentError",
+    "texts": "lines_of extent_of added behind end_of has_place index_of place_of part_of",
+    "edits": "Edit Edit.__init__ Edit.low Edit.high Edit.fresh Edit.new_high Edit.is_idle Edit.forward Edit.back"
+             " Edit.__call__ Edit.opposite Edit.between Edit.__eq__",
+}
+
+
+def files():
+    found = {}
+    for name in sorted(os.listdir(FOLDER)):
+        if name != "__pycache__":
+            with open(os.path.join(FOLDER, name), encoding="utf-8") as held:
+                found[name] = held.read()
+    return found
+
+
+FILES = files()
+TREES = {name[:-3]: ast.parse(source) for name, source in FILES.items()}
+
+
+def nodes(kind):
+    return [(name, node) for name, tree in TREES.items() for node in ast.walk(tree) if isinstance(node, kind)]
+
+
+def defined(tree):
+    """The names of functions and classes, and of methods behind the name of their class."""
+    names = [node.name for node in tree.body if isinstance(node, (ast.FunctionDef, ast.ClassDef))]
+    for node in tree.body:
+        if isinstance(node, ast.ClassDef):
+            names += [f"{node.name}.{row.name}" for row in node.body if isinstance(row, ast.FunctionDef)]
+    return names
+
+
+def yields(function):
+    return any(isinstance(node, (ast.Yield, ast.YieldFrom)) for node in ast.walk(function))
+
+
+class LanguageTest(unittest.TestCase):
+    def test_interface_stands_in_its_file(self):
+        for name, listed in INTERFACE.items():
+            missing = set(listed.split()) - set(defined(TREES[name]))
+            self.assertEqual(set(), missing, name)
+
+    def test_files_and_characters(self):
+        for name, source in FILES.items():
+            self.assertRegex(name, r"^[a-z_][a-z0-9_]*\.py$")
+            self.assertIsNone(re.search(r"[^ -~\n]", source), name)
+            rows = source.split("\n")
+            self.assertLess(len(rows), 401, name)
+            self.assertLess(max(map(len, rows)), 121, name)
+
+    def test_functions_are_short(self):
+        for name, node in nodes(ast.FunctionDef):
+            self.assertLess(node.end_lineno - node.lineno, 40, (name, node.name))
+
+    def test_imports_are_plain_and_make_no_ring(self):
+        wanted = {name: [] for name in TREES}
+        self.assertEqual([], nodes(ast.Import))
+        for name, node in nodes(ast.ImportFrom):
+            self.assertEqual(0, node.level)
+            package, _, other = node.module.partition(".")
+            self.assertEqual("mapstack", package)
+            for alias in node.names:
+                self.assertIsNone(alias.asname)
+                own = [target.id for row in TREES[other].body if isinstance(row, ast.Assign) for target in row.targets]
+                self.assertIn(alias.name, defined(TREES[other]) + own)
+            wanted[name].append(other)
+        while wanted:
+            free = [name for name, others in wanted.items() if not [other for other in others if other in wanted]]
+            self.assertTrue(free, wanted)
+            wanted = {name: others for name, others in wanted.items() if name not in free}
+
+    def test_imported_names_are_used_and_not_bound_again(self):
+        for name, tree in TREES.items():
+            imported = {alias.name for node in tree.body if isinstance(node, ast.ImportFrom) for alias in node.names}
+            used = {node.id for node in ast.walk(tree) if isinstance(node, ast.Name) and isinstance(node.ctx, ast.Load)}
+            bound = {node.id for node in ast.walk(tree) if isinstance(node, ast.Name) and isinstance(node.ctx, ast.Store)}
+            bound |= {node.arg for node in ast.walk(tree) if isinstance(node, ast.arg)}
+            classes = {node.name for node in tree.body if isinstance(node, ast.ClassDef)}
+            self.assertEqual(set(), imported - used, name)
+            self.assertEqual(set(), (imported | classes) & bound, name)
+
+    def test_only_listed_builtins_and_no_new_meaning_for_any(self):
+        import builtins
+        every = set(dir(builtins))
+        for name, node in nodes(ast.Name):
+            if node.id in every:
+                self.assertIn(node.id, BUILTINS, name)
+                self.assertIsInstance(node.ctx, ast.Load, (name, node.id))
+        for name, node in nodes(ast.arg):
+            self.assertNotIn(node.arg, every, name)
+
+    def test_only_listed_methods_of_builtin_values(self):
+        own = {node.name for _, node in nodes(ast.FunctionDef)}
+        for name, node in nodes(ast.Call):
+            if isinstance(node.func, ast.Attribute):
+                self.assertIn(node.func.attr, own | METHODS, name)
+                if node.func.attr in METHODS - own:
+                    self.assertEqual([], node.keywords)
+
+    def test_only_allowed_statements_and_expressions(self):
+        barred = (
+            ast.AsyncFunctionDef, ast.Await, ast.Global, ast.Nonlocal, ast.Div, ast.Is, ast.IsNot, ast.With, ast.Set,
+            ast.GeneratorExp, ast.NamedExpr, ast.Match, ast.AnnAssign,
+        )
+        for name, node in nodes(barred):
+            self.assertIsInstance(node, (ast.Is, ast.IsNot), name)
+        for name, node in nodes(ast.Compare):
+            for operator, right in zip(node.ops, node.comparators):
+                if isinstance(operator, (ast.Is, ast.IsNot)):
+                    self.assertIsInstance(right, ast.Constant, name)
+        for name, node in nodes(ast.Constant):
+            self.assertNotIsInstance(node.value, float)
+            if isinstance(node.value, str):
+                self.assertNotIn("%", node.value)
+
+    def test_decorators_and_dunders(self):
+        for name, node in nodes(ast.FunctionDef):
+            self.assertLess(len(node.decorator_list), 2)
+            for row in node.decorator_list:
+                self.assertIn(getattr(row, "id", ""), {"property", "staticmethod", "classmethod"})
+            if node.name.startswith("__"):
+                self.assertIn(node.name, DUNDERS, name)
+
+    def test_items_come_with_a_refused_iteration(self):
+        for name, node in nodes(ast.ClassDef):
+            names = [row.name for row in node.body if isinstance(row, ast.FunctionDef)]
+            self.assertEqual(len(set(names)), len(names))
+            bases = [base.id for base in node.bases]
+            if "__getitem__" in names and not bases:
+                self.assertIn("__iter__", names, (name, node.name))
+
+    def test_generators_and_properties_share_their_names_with_nothing(self):
+        functions = [node for _, node in nodes(ast.FunctionDef)]
+        generators = [node.name for node in functions if yields(node)]
+        others = [node.name for node in functions if not yields(node)]
+        self.assertEqual(set(), set(generators) & set(others))
+        properties = {node.name for node in functions if node.decorator_list and node.decorator_list[0].id == "property"}
+        plain = {node.name for node in functions if not node.decorator_list}
+        stored = {node.attr for _, node in nodes(ast.Attribute) if isinstance(node.ctx, ast.Store)}
+        self.assertEqual(set(), properties & (plain | stored))
+
+    def test_barred_words(self):
+        for name, node in nodes((ast.Name, ast.Attribute, ast.arg, ast.FunctionDef, ast.ClassDef, ast.keyword)):
+            for field in ("id", "attr", "arg", "name"):
+                self.assertNotIn(getattr(node, field, None), BARRED | NEVER, name)
+        for name, node in nodes(ast.Constant):
+            if isinstance(node.value, str) and " " not in node.value:
+                self.assertNotIn(node.value, BARRED, name)
+
+
+if __name__ == "__main__":
+    unittest.main()
