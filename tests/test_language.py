@@ -30,7 +30,27 @@ INTERFACE = {
     "texts": "lines_of extent_of added behind end_of has_place index_of place_of part_of",
     "edits": "Edit Edit.__init__ Edit.low Edit.high Edit.fresh Edit.new_high Edit.is_idle Edit.forward Edit.back"
              " Edit.__call__ Edit.opposite Edit.between Edit.__eq__",
+    "patches": "Patch Patch.__init__ Patch.in_turn Patch.of_lines Patch.__getitem__ Patch.__len__ Patch.each"
+               " Patch.forward Patch.back Patch.__call__ Patch.opposite Patch.__eq__ Patch.__add__ Patch.merged Patch.led",
+    "maps": "is_source is_position is_segment is_target Map Map.__init__ Map.of Map.unbounded Map.__call__"
+            " Map.__getitem__ Map.__len__ Map.__bool__ Map.__contains__ Map.__eq__ Map.__or__ Map.pieces Map.used_lines"
+            " Map.sources Map.words Map.closed Map.placed Map.unlike Map.first_unlike Map.only Map.without Map.renamed"
+            " Map.worded Map.identity Map.onto Map.least ClosedMap ClosedMap.__init__ ClosedMap.lengths"
+            " ClosedMap.__call__ ClosedMap.__getitem__ ClosedMap.share ClosedMap.grown",
+    "codes": "folded unfolded Alphabet Alphabet.__init__ Alphabet.standard Alphabet.__call__ Alphabet.signed"
+             " Alphabet.codes Alphabet.__contains__ Alphabet.__getitem__ Alphabet.__len__ Alphabet.__eq__"
+             " Alphabet.numbers_in Alphabet.signed_in Alphabet.translated",
+    "maptexts": "map_text read_map segments_in first_wrong is_map_text Decoder Decoder.__init__ Decoder.feed"
+                " Decoder.finish Decoder.taken Decoder.is_complete Decoder.accepts Decoder.follows Decoder.copy",
 }
+SORTS = {
+    "property": "Edit.low Edit.high Edit.fresh Edit.new_high Edit.is_idle ClosedMap.lengths Decoder.taken"
+                " Decoder.is_complete",
+    "classmethod": "Edit.between Patch.in_turn Patch.of_lines Map.of Map.unbounded Map.identity Map.onto"
+                   " Alphabet.standard",
+    "staticmethod": "Map.least",
+}
+GENERATORS = "Patch.each Map.pieces Map.used_lines Map.unlike Alphabet.numbers_in Alphabet.signed_in segments_in"
 
 
 def files():
@@ -68,6 +88,22 @@ class LanguageTest(unittest.TestCase):
         for name, listed in INTERFACE.items():
             missing = set(listed.split()) - set(defined(TREES[name]))
             self.assertEqual(set(), missing, name)
+
+    def test_kinds_of_methods(self):
+        found = {sort: set() for sort in SORTS}
+        generators = set()
+        for _, tree in TREES.items():
+            rows = [(node.name, node) for node in tree.body if isinstance(node, ast.FunctionDef)]
+            for node in tree.body:
+                if isinstance(node, ast.ClassDef):
+                    rows += [(f"{node.name}.{row.name}", row) for row in node.body if isinstance(row, ast.FunctionDef)]
+            for name, row in rows:
+                for decorator in row.decorator_list:
+                    found[decorator.id].add(name)
+                if yields(row):
+                    generators.add(name)
+        self.assertEqual({sort: set(names.split()) for sort, names in SORTS.items()}, found)
+        self.assertEqual(set(GENERATORS.split()), generators)
 
     def test_files_and_characters(self):
         for name, source in FILES.items():
