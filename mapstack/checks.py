@@ -3,9 +3,13 @@
 from mapstack.errors import BadNumber, BadPlace, BadText
 
 
+def is_integer(value):
+    return isinstance(value, int) and not isinstance(value, bool)
+
+
 def is_count(value):
     """Whether a value is an integer from 0 on."""
-    return isinstance(value, int) and not isinstance(value, bool) and value >= 0
+    return is_integer(value) and value >= 0
 
 
 def is_up_to(value, limit):

@@ -1,6 +1,6 @@
 """Codes: integers as rows of the signs of an alphabet."""
 
-from mapstack.checks import check_text, check_up_to, is_up_to
+from mapstack.checks import check_text, check_up_to, is_integer
 from mapstack.errors import BadAlphabet, BadNumber, BadText
 
 CODE_LIMIT = 10 ** 12
@@ -8,16 +8,15 @@ SIGNED_LIMIT = 10 ** 9
 FOLDED_LIMIT = 2 * 10 ** 9
 MANY_SIGNS = 64
 MANY_DIGITS = 32
+# No text has this character.
 PERCENT_SIGN = 37
 
 
 def folded(number):
     """The integer from 0 on that stands for one with a sign."""
-    if is_up_to(number, SIGNED_LIMIT):
-        return 2 * number
-    if isinstance(number, int) and not isinstance(number, bool) and -SIGNED_LIMIT <= number < 0:
-        return -2 * number - 1
-    raise BadNumber(number)
+    if not is_integer(number) or not -SIGNED_LIMIT <= number <= SIGNED_LIMIT:
+        raise BadNumber(number)
+    return 2 * number if number >= 0 else -2 * number - 1
 
 
 def unfolded(number):
@@ -28,7 +27,7 @@ def unfolded(number):
 
 
 def digit_fits(number, index, even_top, odd_top):
-    """Whether a sign can stand behind digits that make this number, and what the number is then.
+    """Whether the sign at an index can stand behind digits that make this number.
 
     The right numbers are the even ones up to one top and the odd ones up to the other one. A first
     digit 0 with more behind it would be needless.
@@ -64,7 +63,7 @@ class Alphabet:
     def standard(cls):
         return cls(cls.STANDARD)
 
-    def _code(self, number):
+    def _code_of(self, number):
         check_up_to(number, CODE_LIMIT)
         code = self._signs[number & 31]
         rest = number // MANY_DIGITS
@@ -75,15 +74,15 @@ class Alphabet:
 
     def __call__(self, number):
         """The code of a number."""
-        return self._code(number)
+        return self._code_of(number)
 
     def signed(self, number):
         """The signed code of a number."""
-        return self._code(folded(number))
+        return self._code_of(folded(number))
 
     def codes(self, *numbers):
         """The codes of numbers, one behind the other."""
-        return "".join([self._code(number) for number in numbers])
+        return "".join([self._code_of(number) for number in numbers])
 
     def __contains__(self, x):
         """Whether a value is one of the signs."""

@@ -342,7 +342,8 @@ class ClosedMap(Map):
         for line in self._rows:
             # Behind the last target of a line is a gap, because the map is closed.
             row = self._rows[line]
-            many += sum([after[2] - piece[2] for piece, after in zip(row, row[1:]) if piece[0] != "gap"])
+            widths = [after[2] - piece[2] for piece, after in zip(row, row[1:]) if piece[0] != "gap"]
+            many = many + sum(widths)
         return many, sum(self._lengths)
 
     def grown(self, *lengths):

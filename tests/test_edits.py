@@ -28,8 +28,8 @@ def slow_forward(edit, place):
 def slow_change(old, new):
     """The change by trying all lengths."""
     front = max(k for k in range(len(old) + 1) if old[:k] == new[:k] and k <= len(new))
-    rests = old[front:], new[front:]
-    rear = max(k for k in range(min(map(len, rests)) + 1) if rests[0][len(rests[0]) - k:] == rests[1][len(rests[1]) - k:])
+    most = min(len(old), len(new)) - front
+    rear = max(k for k in range(most + 1) if old[len(old) - k:] == new[len(new) - k:])
     return front, len(old) - rear, new[front:len(new) - rear]
 
 

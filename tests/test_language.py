@@ -26,12 +26,14 @@ BARRED = set(
 NEVER = set("register mro elements open input law version_info with_traceback add_note".split())
 INTERFACE = {
     "errors": "BadPlace BadText BadSegment BadName BadNumber BadMap BadEdit BadPart BadBuilder BadAlphabet BadProgram"
-              " NothingLeft Clash Stale Ring TooLarge NoText NoPlace NoLevel MapError StackError BoundError AbsentError",
+              " NothingLeft Clash Stale Ring TooLarge NoText NoPlace NoLevel"
+              " MapError StackError BoundError AbsentError",
     "texts": "lines_of extent_of added behind end_of has_place index_of place_of part_of",
     "edits": "Edit Edit.__init__ Edit.low Edit.high Edit.fresh Edit.new_high Edit.is_idle Edit.forward Edit.back"
              " Edit.__call__ Edit.opposite Edit.between Edit.__eq__",
     "patches": "Patch Patch.__init__ Patch.in_turn Patch.of_lines Patch.__getitem__ Patch.__len__ Patch.each"
-               " Patch.forward Patch.back Patch.__call__ Patch.opposite Patch.__eq__ Patch.__add__ Patch.merged Patch.led",
+               " Patch.forward Patch.back Patch.__call__ Patch.opposite Patch.__eq__ Patch.__add__ Patch.merged"
+               " Patch.led",
     "maps": "is_source is_position is_segment is_target Map Map.__init__ Map.of Map.unbounded Map.__call__"
             " Map.__getitem__ Map.__len__ Map.__bool__ Map.__contains__ Map.__eq__ Map.__or__ Map.pieces Map.used_lines"
             " Map.sources Map.words Map.closed Map.placed Map.unlike Map.first_unlike Map.only Map.without Map.renamed"
@@ -137,8 +139,9 @@ class LanguageTest(unittest.TestCase):
     def test_imported_names_are_used_and_not_bound_again(self):
         for name, tree in TREES.items():
             imported = {alias.name for node in tree.body if isinstance(node, ast.ImportFrom) for alias in node.names}
-            used = {node.id for node in ast.walk(tree) if isinstance(node, ast.Name) and isinstance(node.ctx, ast.Load)}
-            bound = {node.id for node in ast.walk(tree) if isinstance(node, ast.Name) and isinstance(node.ctx, ast.Store)}
+            names = [node for node in ast.walk(tree) if isinstance(node, ast.Name)]
+            used = {node.id for node in names if isinstance(node.ctx, ast.Load)}
+            bound = {node.id for node in names if isinstance(node.ctx, ast.Store)}
             bound |= {node.arg for node in ast.walk(tree) if isinstance(node, ast.arg)}
             classes = {node.name for node in tree.body if isinstance(node, ast.ClassDef)}
             self.assertEqual(set(), imported - used, name)
@@ -199,7 +202,7 @@ class LanguageTest(unittest.TestCase):
         generators = [node.name for node in functions if yields(node)]
         others = [node.name for node in functions if not yields(node)]
         self.assertEqual(set(), set(generators) & set(others))
-        properties = {node.name for node in functions if node.decorator_list and node.decorator_list[0].id == "property"}
+        properties = {name.rpartition(".")[2] for name in SORTS["property"].split()}
         plain = {node.name for node in functions if not node.decorator_list}
         stored = {node.attr for _, node in nodes(ast.Attribute) if isinstance(node.ctx, ast.Store)}
         self.assertEqual(set(), properties & (plain | stored))

@@ -76,8 +76,9 @@ class FormTest(unittest.TestCase):
                 for other in others:
                     self.assertIs(False, is_segment(value[:index] + (other,) + value[index + 1:]))
         for value in (
-            (), None, 0, True, "gap", {}, ("gap",), ("gap", 0), ("gap", 0, 0, "s", 0, 0), ("gap", 0, 0, "s"), ("run", 0, 0),
-            ("run", 0, 0, "s", 0), ("Run", 0, 0, "s", 0, 0), ("run", 0, 0, "s", 0, 0, None), ("gap", 0, 0, None, None, None),
+            (), None, 0, True, "gap", {}, ("gap",), ("gap", 0), ("gap", 0, 0, "s", 0, 0), ("gap", 0, 0, "s"),
+            ("run", 0, 0), ("run", 0, 0, "s", 0), ("Run", 0, 0, "s", 0, 0), ("run", 0, 0, "s", 0, 0, None),
+            ("gap", 0, 0, None, None, None),
             (["run"], 0, 0, "s", 0, 0), (0, 0, 0), ("run", 0, 0, "s", 0, 0, "w", "v"),
         ):
             self.assertIs(False, is_segment(value), value)

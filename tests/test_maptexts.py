@@ -29,7 +29,8 @@ def texts_for_judging():
     for segments in CASES[:60]:
         names = chance.sample(["s", "t", "long.name/1", "w"], chance.randrange(4))
         texts.append(written(segments, names, names[:1], chance.randrange(2)))
-    big = [("run", 0, 0, "s", 1500, 0), ("point", 0, 1, "t", 0, 1500, "w"), ("gap", 0, 1500), ("run", 1, 1200, "s", 7, 900)]
+    big = [("run", 0, 0, "s", 1500, 0), ("point", 0, 1, "t", 0, 1500, "w"), ("gap", 0, 1500)]
+    big.append(("run", 1, 1200, "s", 7, 900))
     return texts + [written(big, "uv", "xyz"), written(big[1:3]), "AA", "AA;", "AA;;", written([("gap", 2, 3)])]
 
 
@@ -304,7 +305,8 @@ class FirstWrongTest(unittest.TestCase):
 
     def test_segments_in_front_of_the_wrong_index(self):
         for text, wrong, many in (
-            ("BBsAA>AAA,B,", 12, 2), ("BBsAA>AAA,B!", 11, 1), ("BBsAA>AAA!", 9, 0), ("BBsAA;B;;C;-", 11, 3), ("A", 1, 0),
+            ("BBsAA>AAA,B,", 12, 2), ("BBsAA>AAA,B!", 11, 1), ("BBsAA>AAA!", 9, 0), ("BBsAA;B;;C;-", 11, 3),
+            ("A", 1, 0),
         ):
             found = []
             with self.assertRaises(BadText) as held:
