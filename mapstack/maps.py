@@ -4,6 +4,7 @@ from mapstack.checks import check_up_to, is_up_to
 from mapstack.errors import BadMap, BadName, BadNumber, BadSegment, NoPlace, TooLarge
 from mapstack.stretches import (
     closed_at, overlaid, piece_index, piece_tuples, stretches_of, told_named, told_worded, unlike_parts,
+    word_of,
 )
 
 NAME_SIGNS = "ABCDEFGHIJKLMNOPQRSTUVWXYZabcdefghijklmnopqrstuvwxyz0123456789_-./"
@@ -66,10 +67,30 @@ def _check_segments(segments, limit):
         begins[segment[1:3]] = True
 
 
+def check_map(value):
+    if not isinstance(value, Map):
+        raise BadMap(value)
+
+
+def check_source(value):
+    if not is_source(value):
+        raise BadName(value)
+
+
+def check_word(value):
+    """Refuse what is neither None nor a word."""
+    if value is not None:
+        check_source(value)
+
+
+def check_numbers(line, column):
+    check_up_to(line, NUMBER_LIMIT)
+    check_up_to(column, NUMBER_LIMIT)
+
+
 def _check_names(names):
     for name in names:
-        if not is_source(name):
-            raise BadName(name)
+        check_source(name)
 
 
 def _check_lengths(lengths):
@@ -91,7 +112,7 @@ def _lines_of_segments(segments):
     return {line: stretches_of(rows[line]) for line in rows}
 
 
-def _pieces_of_lines(lines):
+def pieces_of_lines(lines):
     """The pieces of each line that has some, by ascending lines, from the stretches of lines."""
     rows = {line: piece_tuples(line, lines[line]) for line in sorted(lines)}
     return {line: rows[line] for line in rows if rows[line]}
@@ -107,13 +128,29 @@ def _all_pieces(rows):
     return tuple(every)
 
 
-def map_of_lines(lines):
-    """The Map of the stretches of some lines, in a dict."""
-    rows = _pieces_of_lines(lines)
+def map_of_rows(rows):
+    """The Map of the pieces of each line that has some, by ascending lines, in a dict."""
     made = Map()
     made._rows = rows
     made._pieces = _all_pieces(rows)
     return made
+
+
+def map_of_lines(lines):
+    """The Map of the stretches of some lines, in a dict."""
+    return map_of_rows(pieces_of_lines(lines))
+
+
+def plain_map(own_map):
+    """The map itself, or the Map that a closed one equals."""
+    if isinstance(own_map, ClosedMap):
+        return map_of_rows(own_map._rows)
+    return own_map
+
+
+def lines_of_map(own_map):
+    """The stretches of each line of a map that has pieces, in a dict."""
+    return {line: stretches_of(own_map._rows[line]) for line in own_map._rows}
 
 
 def _distinct(names):
@@ -126,7 +163,7 @@ class Map:
 
     def __init__(self, *segments):
         _check_segments(segments, NUMBER_LIMIT)
-        self._rows = _pieces_of_lines(_lines_of_segments(segments))
+        self._rows = pieces_of_lines(_lines_of_segments(segments))
         self._pieces = _all_pieces(self._rows)
 
     @classmethod
@@ -147,7 +184,7 @@ class Map:
     @classmethod
     def identity(cls, source, lengths):
         """The map of a text with lines of these lengths to itself."""
-        _check_names((source,))
+        check_source(source)
         _check_lengths(lengths)
         lines = {}
         for line, length in enumerate(lengths):
@@ -158,7 +195,7 @@ class Map:
     @classmethod
     def onto(cls, source, count):
         """The map of so many lines without end to the same lines of a source."""
-        _check_names((source,))
+        check_source(source)
         check_up_to(count, NUMBER_LIMIT)
         if count > PIECE_LIMIT:
             raise TooLarge(PIECE_LIMIT)
@@ -168,7 +205,7 @@ class Map:
     def least(*segments):
         """The number of pieces of the map of some segments."""
         _check_segments(segments, NUMBER_LIMIT)
-        rows = _pieces_of_lines(_lines_of_segments(segments))
+        rows = pieces_of_lines(_lines_of_segments(segments))
         return sum([len(rows[line]) for line in rows])
 
     def target_at(self, line, column):
@@ -179,7 +216,7 @@ class Map:
             return None
         piece = row[index]
         by = column - piece[2] if piece[0] == "run" else 0
-        return piece[3], piece[4], piece[5] + by, piece[6] if len(piece) > 6 else None
+        return piece[3], piece[4], piece[5] + by, word_of(piece)
 
     def row_at(self, line):
         """The tuple of the pieces of any line."""
@@ -187,8 +224,7 @@ class Map:
 
     def __call__(self, line, column):
         """The target of a position, or None."""
-        check_up_to(line, NUMBER_LIMIT)
-        check_up_to(column, NUMBER_LIMIT)
+        check_numbers(line, column)
         return self.target_at(line, column)
 
     def __getitem__(self, at):
@@ -248,8 +284,7 @@ class Map:
 
     def placed(self, line, column):
         """The map whose position (0, 0) stands at this place."""
-        check_up_to(line, NUMBER_LIMIT)
-        check_up_to(column, NUMBER_LIMIT)
+        check_numbers(line, column)
         lines = {}
         for own_line in self._rows:
             by = column if own_line == 0 else 0
@@ -259,8 +294,7 @@ class Map:
 
     def unlike(self, other):
         """Yield the ranges of the positions at which two maps tell different targets."""
-        if not isinstance(other, Map):
-            raise BadMap(other)
+        check_map(other)
         for line in sorted(set(self._rows) | set(other._rows)):
             for first, after in unlike_parts(stretches_of(self.row_at(line)), stretches_of(other.row_at(line))):
                 yield line, first, after
@@ -299,8 +333,7 @@ class Map:
 
     def worded(self, word=None):
         """The map whose targets all have this word, or none."""
-        if word is not None:
-            _check_names((word,))
+        check_word(word)
         lines = {}
         for line in self._rows:
             lines[line] = [(begin, told_worded(told, word)) for begin, told in stretches_of(self._rows[line])]
@@ -323,8 +356,7 @@ class ClosedMap(Map):
 
     def __call__(self, line, column):
         """The target of a position of the text, or None."""
-        check_up_to(line, NUMBER_LIMIT)
-        check_up_to(column, NUMBER_LIMIT)
+        check_numbers(line, column)
         if line >= len(self._lengths) or column > self._lengths[line]:
             raise NoPlace((line, column))
         return self.target_at(line, column)

@@ -3,17 +3,10 @@
 from mapstack.checks import check_count, check_text, is_up_to
 from mapstack.edits import Edit
 from mapstack.errors import BadEdit, BadNumber, Clash, NoPlace, TooLarge
-from mapstack.texts import end_of, index_of, part_of
+from mapstack.texts import end_of, index_of, part_of, rows_of
 from mapstack.turns import in_turn_edits, led_along, new_spans
 
 ROW_LIMIT = 300
-
-
-def _rows_of(text):
-    """The lines with their line feeds, and what is left behind the last one, if anything."""
-    lines = text.split("\n")
-    rows = [line + "\n" for line in lines[:-1]]
-    return rows + [line for line in lines[-1:] if line]
 
 
 def _common_counts(old, new):
@@ -92,7 +85,7 @@ class Patch:
         """A patch that keeps as many rows as possible, and replaces those between them."""
         check_text(old)
         check_text(new)
-        old_rows, new_rows = _rows_of(old), _rows_of(new)
+        old_rows, new_rows = rows_of(old), rows_of(new)
         if max(len(old_rows), len(new_rows)) > ROW_LIMIT:
             raise TooLarge(ROW_LIMIT)
         begins = [(line, 0) for line in range(len(old_rows))] + [end_of(old)]

@@ -26,16 +26,21 @@ def told_worded(told, word):
     return None if told is None else told[:4] + (word,)
 
 
+def word_of(piece):
+    """The word of the targets of a run or a point, or None."""
+    return piece[6] if len(piece) > 6 else None
+
+
+def told_of(piece):
+    """What a segment tells at its first column."""
+    if piece[0] == "gap":
+        return None
+    return piece[0], piece[3], piece[4], piece[5], word_of(piece)
+
+
 def stretches_of(pieces_of_line):
     """The stretches of some segments of one line, which are ascending."""
-    stretches = []
-    for piece in pieces_of_line:
-        if piece[0] == "gap":
-            told = None
-        else:
-            told = (piece[0], piece[3], piece[4], piece[5], piece[6] if len(piece) > 6 else None)
-        stretches.append((piece[2], told))
-    return stretches
+    return [(piece[2], told_of(piece)) for piece in pieces_of_line]
 
 
 def _some_columns(stretches):
@@ -130,6 +135,12 @@ def overlaid(one, other):
 def closed_at(stretches, length):
     """What a line tells in front of a length, and nothing behind."""
     return [(begin, told) for begin, told in stretches if begin < length] + [(length, None)]
+
+
+def cut_from(stretches, column):
+    """What a line tells from a column on, counted from there."""
+    front = told_at(stretches, [column])
+    return [(0, front[0])] + [(begin - column, told) for begin, told in stretches if begin > column]
 
 
 def _meeting(one, other):

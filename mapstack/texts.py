@@ -10,6 +10,13 @@ def lines_of(text):
     return tuple(text.split("\n"))
 
 
+def rows_of(text):
+    """The lines with their line feeds, and what is left behind the last one, if anything."""
+    lines = text.split("\n")
+    rows = [line + "\n" for line in lines[:-1]]
+    return rows + [line for line in lines[-1:] if line]
+
+
 def extent_of(text):
     """The pair of the number of line feeds and the length of the last line."""
     check_text(text)

@@ -44,15 +44,41 @@ INTERFACE = {
              " Alphabet.numbers_in Alphabet.signed_in Alphabet.translated",
     "maptexts": "map_text read_map segments_in first_wrong is_map_text Decoder Decoder.__init__ Decoder.feed"
                 " Decoder.finish Decoder.taken Decoder.is_complete Decoder.accepts Decoder.follows Decoder.copy",
+    "composing": "through composed joined_levels shaken cuts",
+    "stacks": "Stack Stack.__init__ Stack.of_maps Stack.__call__ Stack.chain Stack.word_level Stack.from_level"
+              " Stack.flattened Stack.add_level Stack.drop_level Stack.put_level Stack.take_level Stack.set_map Stack.undo"
+              " Stack.looked_with Stack.undoable Stack.__len__ Stack.__getitem__ Stack.__contains__ Stack.__eq__"
+              " Stack.twin NotingStack NotingStack.__call__ NotingStack.notes NotingStack.forget_notes",
+    "images": "joined_ranges Images Images.__init__ Images.__call__ Images.__contains__ Images.__len__ Images.coverage"
+              " Images.covered_lines Images.words_at Images.neighbors Images.last_place WordImages WordImages.__init__"
+              " WordImages.of_all",
+    "breakpoints": "Breakpoints Breakpoints.__init__ Breakpoints.put Breakpoints.clear Breakpoints.asked"
+                   " Breakpoints.bound Breakpoints.ranges Breakpoints.numbers Breakpoints.hits Breakpoints.follow"
+                   " Breakpoints.copy",
+    "traces": "frames_of trace_text Stepper Stepper.__init__ Stepper.step Stepper.set_way Stepper.way Stepper.base"
+              " Stepper.stops Stepper.copy BreakStepper BreakStepper.__init__ BreakStepper.step BreakStepper.set_way"
+              " BreakStepper.copy",
+    "bundles": "cut Bundle Bundle.__init__ Bundle.of Bundle.whole_text Bundle.whole_map Bundle.parts Bundle.joints"
+               " Bundle.__len__ Bundle.__getitem__ Bundle.__add__ Bundle.__eq__ Bundle.__bool__ Bundle.lies_in"
+               " Bundle.stands_at Bundle.cut_up",
+    "builders": "Builder Builder.__init__ Builder.plain Builder.copied Builder.pointed Builder.__call__ Builder.deeper"
+                " Builder.flatter Builder.added Builder.whole_text Builder.whole_map Builder.as_part Builder.levels"
+                " Builder.__len__ Builder.__bool__ Builder.step_count Builder.undo Builder.copy Builder.__eq__"
+                " MarkedBuilder MarkedBuilder.__init__ MarkedBuilder.mark MarkedBuilder.place_of MarkedBuilder.marks"
+                " MarkedBuilder.put_in",
 }
 SORTS = {
     "property": "Edit.low Edit.high Edit.fresh Edit.new_high Edit.is_idle ClosedMap.lengths Decoder.taken"
-                " Decoder.is_complete",
+                " Decoder.is_complete Stack.undoable Stepper.way Stepper.base Stepper.stops Builder.levels",
     "classmethod": "Edit.between Patch.in_turn Patch.of_lines Map.of Map.unbounded Map.identity Map.onto"
-                   " Alphabet.standard",
+                   " Alphabet.standard Stack.of_maps Stack._of_levels WordImages.of_all Bundle.of Bundle.cut_up"
+                   " Builder._new",
     "staticmethod": "Map.least",
 }
-GENERATORS = "Patch.each Map.pieces Map.used_lines Map.unlike Alphabet.numbers_in Alphabet.signed_in segments_in"
+GENERATORS = (
+    "Patch.each Map.pieces Map.used_lines Map.unlike Alphabet.numbers_in Alphabet.signed_in segments_in cuts Stack.chain"
+    " Images.covered_lines Bundle.parts Bundle.joints"
+)
 
 
 def files():
@@ -206,6 +232,26 @@ class LanguageTest(unittest.TestCase):
         plain = {node.name for node in functions if not node.decorator_list}
         stored = {node.attr for _, node in nodes(ast.Attribute) if isinstance(node.ctx, ast.Store)}
         self.assertEqual(set(), properties & (plain | stored))
+
+    def test_no_name_is_a_method_and_an_attribute(self):
+        methods = {row.name for _, node in nodes(ast.ClassDef) for row in node.body if isinstance(row, ast.FunctionDef)}
+        stored = {node.attr for _, node in nodes(ast.Attribute) if isinstance(node.ctx, ast.Store)}
+        read = {node.attr for _, node in nodes(ast.Attribute) if isinstance(node.ctx, ast.Load)}
+        constants = {"MARKS", "STANDARD"}
+        self.assertEqual(set(), methods & stored)
+        self.assertEqual(set(), read - stored - methods - METHODS - constants)
+
+    def test_generators_are_iterated_where_they_are_called(self):
+        generators = {name.rpartition(".")[2] for name in GENERATORS.split()}
+        for name, tree in TREES.items():
+            iterated = [node.iter for node in ast.walk(tree) if isinstance(node, (ast.For, ast.comprehension))]
+            for node in ast.walk(tree):
+                if isinstance(node, ast.Call) and getattr(node.func, "id", "") in {"list", "tuple", "sorted"}:
+                    iterated += node.args[:1]
+            called = [node for node in ast.walk(tree) if isinstance(node, ast.Call)]
+            for node in called:
+                if getattr(node.func, "attr", getattr(node.func, "id", "")) in generators:
+                    self.assertIn(node, iterated, (name, node.lineno))
 
     def test_barred_words(self):
         for name, node in nodes((ast.Name, ast.Attribute, ast.arg, ast.FunctionDef, ast.ClassDef, ast.keyword)):
