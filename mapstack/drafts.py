@@ -5,7 +5,6 @@ stretch tells at the first sign.
 """
 
 from mapstack.errors import TooLarge
-from mapstack.stretches import told_further
 from mapstack.texts import end_of, place_of, rows_of
 
 TEXT_LIMIT = 20000
@@ -23,14 +22,13 @@ def _signs_of(pieces):
     return "".join([signs for signs, _ in pieces])
 
 
-def _piece_at(pieces, index):
-    """The number of the piece with the sign at an index of the text, and how much of it stands in front."""
-    rest = index
-    for number, (signs, _) in enumerate(pieces):
-        if rest < len(signs):
-            return number, rest
-        rest -= len(signs)
-    return len(pieces), 0
+def _number_in_front(pieces, index):
+    """How many pieces stand in front of an index of the text, which is between two of them or at an end."""
+    number = many = 0
+    while many < index:
+        many += len(pieces[number][0])
+        number += 1
+    return number
 
 
 class Draft:
@@ -77,17 +75,18 @@ class Draft:
     def step_count(self):
         return len(self._past)
 
-    def _splice(self, index, signs, number, replaced, pieces):
-        """A step: put signs in at an index of the text, and pieces in the place of some from a number on."""
-        self._past.append((index, len(signs), number, len(pieces), replaced, self.indents, self.spots))
+    def _put(self, index, number, pieces):
+        """A step: put pieces in, behind so many signs and so many pieces."""
+        signs = _signs_of(pieces)
+        self._past.append((index, len(signs), number, len(pieces), self.indents, self.spots))
         self.text = self.text[:index] + signs + self.text[index:]
-        self._pieces[number:number + len(replaced)] = pieces
+        self._pieces[number:number] = pieces
 
     def step_back(self):
         """Take the last step back."""
-        index, many_signs, number, many_pieces, replaced, indents, spots = self._past.pop()
+        index, many_signs, number, many_pieces, indents, spots = self._past.pop()
         self.text = self.text[:index] + self.text[index + many_signs:]
-        self._pieces[number:number + many_pieces] = replaced
+        del self._pieces[number:number + many_pieces]
         self.indents = indents
         self.spots = spots
 
@@ -97,7 +96,7 @@ class Draft:
             raise TooLarge(TEXT_LIMIT)
 
     def _put_behind(self, pieces):
-        self._splice(len(self.text), _signs_of(pieces), len(self._pieces), (), pieces)
+        self._put(len(self.text), len(self._pieces), pieces)
 
     def set_indents(self, indents):
         """A step: have other indents from here on."""
@@ -131,14 +130,8 @@ class Draft:
         self._put_behind(pieces)
 
     def put_between(self, index, pieces, spots):
-        """A step: put pieces in at an index of the text, without indents, and have other marks."""
-        signs = _signs_of(pieces)
-        self._check_room(len(signs))
-        number, front = _piece_at(self._pieces, index)
-        replaced = ()
-        if front > 0:
-            row, told = self._pieces[number]
-            replaced = ((row, told),)
-            pieces = [(row[:front], told)] + pieces + [(row[front:], told_further(told, front))]
-        self._splice(index, signs, number, replaced, pieces)
+        """A step: put pieces in at the index of a mark, without indents, and have other marks."""
+        self._check_room(len(_signs_of(pieces)))
+        # A mark is made at the end, so it always stands between two pieces.
+        self._put(index, _number_in_front(self._pieces, index), pieces)
         self.spots = spots

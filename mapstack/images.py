@@ -136,7 +136,6 @@ class WordImages(Images):
     @classmethod
     def of_all(cls, map_here):
         """The images for None and for each word of a map, in a tuple."""
-        check_map(map_here)
         made = [cls(map_here, None)]
         for word in map_here.words():
             made.append(cls(map_here, word))

@@ -355,6 +355,21 @@ class TooLargeTest(unittest.TestCase):
         expected = Map(*[("run", 0, 5000 * index, "b", 0, 0, "w") for index in range(40)], ("gap", 0, 200000))
         self.assertEqual(expected, through(outer, {"a": words}))
 
+    def test_a_long_line_with_just_as_many_pieces(self):
+        words = Map(*[("run", 0, column, "b", 0, column) + (("w",) if column % 2 else ()) for column in range(5000)])
+        # Seven runs come to one piece each, and the long one behind them ends in a gap, as the line does.
+        outer = Map(
+            *[("run", 0, 5000 * index, "a", 0, 0, "w") for index in range(7)], ("run", 0, 35000, "c", 0, 0),
+            ("run", 0, 55000, "d", 0, 0),
+        )
+        for many in (9992, 9993):
+            long = alternating(many, source="e", per_line=10000) + [("gap", 0, many)]
+            level = {"a": words, "c": Map(*long), "d": Map()}
+            if many == 9992:
+                self.assertEqual(10000, len(through(outer, level)))
+            else:
+                fails(self, TooLarge, "limit", 10000, through, outer, level)
+
     def test_shaken(self):
         outer = Map(*[("point", 0, index, "a", 0, 2 * index) for index in range(5000)])
         made = shaken(outer, {"a": Map.onto("b", 1)})["a"]

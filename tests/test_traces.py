@@ -282,6 +282,7 @@ class RefusedTest(unittest.TestCase):
         stepper.set_way(way="over")
         self.assertIsNone(stepper.step(depth=1, column=0, line=0))
         self.assertEqual(("a", 1, 2, None), stepper.step(column=2, line=1))
+        self.assertEqual(0, stepper.base)
         self.assertEqual(("a", 1, 2, None), Stepper(map_here=Map.onto("a", 3)).step(depth=7, column=2, line=1))
 
 
