@@ -2,27 +2,9 @@
 
 from mapstack.checks import check_text, is_place, is_up_to
 from mapstack.errors import BadNumber, BadPart, BadPlace, NoPlace
+from mapstack.lines import START, closed_lines, cut_lines, placed_lines
 from mapstack.maps import Map, check_map, is_position, lines_of_map, map_of_lines, pieces_of_lines
-from mapstack.stretches import closed_at, cut_from
 from mapstack.texts import added, end_of, has_place, moved, part_of
-
-START = (0, 0)
-
-
-def _closed_lines(lines, end):
-    """The stretches of some lines in front of a position."""
-    kept = {line: lines[line] for line in lines if line < end[0]}
-    if end[0] in lines:
-        kept[end[0]] = closed_at(lines[end[0]], end[1])
-    return kept
-
-
-def _cut_lines(lines, begin):
-    """The stretches of some lines from a position on, which becomes (0, 0)."""
-    kept = {line - begin[0]: lines[line] for line in lines if line > begin[0]}
-    if begin[0] in lines:
-        kept[0] = cut_from(lines[begin[0]], begin[1])
-    return kept
 
 
 def cut(map_here, begin, end=None):
@@ -34,8 +16,8 @@ def cut(map_here, begin, end=None):
         raise BadPlace(end)
     lines = lines_of_map(map_here)
     if end is not None:
-        lines = _closed_lines(lines, end)
-    return map_of_lines(_cut_lines(lines, begin))
+        lines = closed_lines(lines, end)
+    return map_of_lines(cut_lines(lines, begin))
 
 
 def _is_part(value):
@@ -48,7 +30,7 @@ def _is_part(value):
 def _cut_off(part):
     """A part whose map tells nothing behind the end of its text."""
     text, own_map = part
-    return text, map_of_lines(_closed_lines(lines_of_map(own_map), end_of(text)))
+    return text, map_of_lines(closed_lines(lines_of_map(own_map), end_of(text)))
 
 
 def _check_place(line, column):
@@ -111,11 +93,9 @@ class Bundle:
         """The stretches of the lines of the bundle."""
         lines = {}
         for (text, own_map), begin in zip(self._parts, self._begins):
-            shut = _closed_lines(lines_of_map(own_map), end_of(text))
-            for line, stretches in shut.items():
-                new_line, by = moved((line, 0), START, begin)
-                placed = [(column + by, told) for column, told in stretches]
-                lines[new_line] = lines.get(new_line, []) + placed
+            shut = closed_lines(lines_of_map(own_map), end_of(text))
+            for line, stretches in placed_lines(shut, begin).items():
+                lines[line] = lines.get(line, []) + stretches
         return lines
 
     def whole_map(self):

@@ -66,18 +66,27 @@ INTERFACE = {
                 " Builder.__len__ Builder.__bool__ Builder.step_count Builder.undo Builder.copy Builder.__eq__"
                 " MarkedBuilder MarkedBuilder.__init__ MarkedBuilder.mark MarkedBuilder.place_of MarkedBuilder.marks"
                 " MarkedBuilder.put_in",
+    "led": "edited led edited_losses led_losses",
+    "fingerprints": "checksum Fingerprint Fingerprint.__init__ Fingerprint.lengths Fingerprint.checksums"
+                    " Fingerprint.first_stale Fingerprint.__len__ Fingerprint.__getitem__ Fingerprint.__eq__"
+                    " Dated Dated.__init__ Dated.own_map Dated.stale Dated.renewed",
+    "trackers": "Tracker Tracker.__init__ Tracker.add Tracker.change Tracker.change_all Tracker.drop_last Tracker.undo"
+                " Tracker.redo Tracker.names Tracker.text_of Tracker.map_of Tracker.trail Tracker.flat Tracker.__len__"
+                " Tracker.__contains__ Tracker.__eq__ Tracker.copy LoggingTracker LoggingTracker.__init__"
+                " LoggingTracker.log",
 }
 SORTS = {
     "property": "Edit.low Edit.high Edit.fresh Edit.new_high Edit.is_idle ClosedMap.lengths Decoder.taken"
-                " Decoder.is_complete Stack.undoable Stepper.way Stepper.base Stepper.stops Builder.levels",
+                " Decoder.is_complete Stack.undoable Stepper.way Stepper.base Stepper.stops Builder.levels"
+                " Fingerprint.lengths Fingerprint.checksums",
     "classmethod": "Edit.between Patch.in_turn Patch.of_lines Map.of Map.unbounded Map.identity Map.onto"
                    " Alphabet.standard Stack.of_maps Stack._of_levels WordImages.of_all Bundle.of Bundle.cut_up"
-                   " Builder._new",
+                   " Builder._new Tracker._begun",
     "staticmethod": "Map.least",
 }
 GENERATORS = (
     "Patch.each Map.pieces Map.used_lines Map.unlike Alphabet.numbers_in Alphabet.signed_in segments_in cuts Stack.chain"
-    " Images.covered_lines Bundle.parts Bundle.joints"
+    " Images.covered_lines Bundle.parts Bundle.joints edited_losses led_losses Tracker.trail"
 )
 
 
