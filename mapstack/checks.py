@@ -2,6 +2,9 @@
 
 from mapstack.errors import BadNumber, BadPlace, BadText
 
+# The most characters of a program, and of all texts that are made piece by piece.
+TEXT_LIMIT = 20000
+
 
 def is_integer(value):
     return isinstance(value, int) and not isinstance(value, bool)

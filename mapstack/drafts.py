@@ -4,10 +4,9 @@ A piece is a pair (signs, told), in which a line feed stands at the end only. To
 stretch tells at the first sign.
 """
 
+from mapstack.checks import TEXT_LIMIT
 from mapstack.errors import TooLarge
 from mapstack.texts import end_of, place_of, rows_of
-
-TEXT_LIMIT = 20000
 
 
 def _told_below(told, by):

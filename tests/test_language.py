@@ -74,6 +74,14 @@ INTERFACE = {
                 " Tracker.redo Tracker.names Tracker.text_of Tracker.map_of Tracker.trail Tracker.flat Tracker.__len__"
                 " Tracker.__contains__ Tracker.__eq__ Tracker.copy LoggingTracker LoggingTracker.__init__"
                 " LoggingTracker.log",
+    "tokens": "tokens spelled",
+    "tools": "Tool Tool.__call__ Tool.new_text Stripping Stripping.__call__ Stripping.new_text Shortening"
+             " Shortening.__init__ Shortening.__call__ Shortening.new_text Shortening.new_words Including"
+             " Including.__init__ Including.__call__ Including.new_text Expanding Expanding.__call__ Expanding.new_text"
+             " Wrapping Wrapping.__init__ Wrapping.__call__ Wrapping.new_text restored",
+    "pipelines": "Pipeline Pipeline.__init__ Pipeline.apply Pipeline.tried Pipeline.take_back Pipeline.__len__"
+                 " Pipeline.__getitem__ Pipeline.titles Pipeline.step_map Pipeline.origin_map Pipeline.origins",
+    "session": "Session Session.__init__ Session.execute Session.run Session.tracker",
 }
 SORTS = {
     "property": "Edit.low Edit.high Edit.fresh Edit.new_high Edit.is_idle ClosedMap.lengths Decoder.taken"
@@ -87,6 +95,7 @@ SORTS = {
 GENERATORS = (
     "Patch.each Map.pieces Map.used_lines Map.unlike Alphabet.numbers_in Alphabet.signed_in segments_in cuts Stack.chain"
     " Images.covered_lines Bundle.parts Bundle.joints edited_losses led_losses Tracker.trail"
+    " tokens Pipeline.origins"
 )
 
 
@@ -246,7 +255,7 @@ class LanguageTest(unittest.TestCase):
         methods = {row.name for _, node in nodes(ast.ClassDef) for row in node.body if isinstance(row, ast.FunctionDef)}
         stored = {node.attr for _, node in nodes(ast.Attribute) if isinstance(node.ctx, ast.Store)}
         read = {node.attr for _, node in nodes(ast.Attribute) if isinstance(node.ctx, ast.Load)}
-        constants = {"MARKS", "STANDARD"}
+        constants = {"MARKS", "STANDARD", "TITLE"}
         self.assertEqual(set(), methods & stored)
         self.assertEqual(set(), read - stored - methods - METHODS - constants)
 
