@@ -12,7 +12,7 @@ from mapstack.texts import lines_of
 def _number_of(rows, name):
     """The number of the row with a name."""
     names = [row[0] for row in rows]
-    if not isinstance(name, str) or name not in names:
+    if name not in names:
         raise NoText(name)
     return names.index(name)
 
@@ -138,17 +138,15 @@ class Tracker:
     def trail(self, line, column):
         """Yield a position of the last text, and those to which it leads, from text to text in front."""
         check_numbers(line, column)
-        rows = self._rows
-        number = len(rows) - 1
-        while number is not None:
-            name, _, own_map = rows[number]
-            yield name, line, column
-            target = None if own_map is None else own_map.target_at(line, column)
-            names = [row[0] for row in rows[:number]]
-            if target is None or target[0] not in names:
-                return
-            number = names.index(target[0])
-            line, column = target[1], target[2]
+        wanted = self._rows[-1][0]
+        for name, _, own_map in self._rows[::-1]:
+            if name == wanted:
+                yield name, line, column
+                target = None if own_map is None else own_map.target_at(line, column)
+                if target is None:
+                    return
+                # What does not stand in front is not met any more.
+                wanted, line, column = target[:3]
 
     def flat(self):
         """The last map, led through those of all texts in front, from the last one on."""
