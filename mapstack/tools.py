@@ -183,10 +183,11 @@ class Including(Tool):
         for _, found, _ in read_rows(text):
             if _is_use_row(found):
                 name = found[1][1]
-                if name not in self._texts:
-                    raise NoText(name)
+                # Told ahead of NoText, because the program is the first text also if the dict has none of its name.
                 if name in path:
                     raise Ring(path + (name,))
+                if name not in self._texts:
+                    raise NoText(name)
                 if name not in done:
                     self._check_uses(self._texts[name], path + (name,), done)
                     done[name] = True

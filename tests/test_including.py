@@ -56,6 +56,25 @@ def any_texts(chance):
     return dict(items)
 
 
+def any_uses(chance, names):
+    """A text of few use lines, which may name anything."""
+    return "\n".join(chance.choice(("x", f"use {chance.choice(names)}")) for _ in range(chance.randrange(4)))
+
+
+def first_refusal(text, texts, path):
+    """What is met first: the error and its value, or None; each use line is followed, also those of texts met before."""
+    for name in map(used, text.split("\n")):
+        if name is not None:
+            if name in path:
+                return Ring, path + (name,)
+            if name not in texts:
+                return NoText, name
+            found = first_refusal(texts[name], texts, path + (name,))
+            if found is not None:
+                return found
+    return None
+
+
 class IncludingTest(unittest.TestCase):
     def test_every_position(self):
         chance = random.Random(661)
@@ -128,12 +147,52 @@ class IncludingTest(unittest.TestCase):
         self.assertEqual("x", Including(both).new_text("use p"))
         self.assertEqual("x\nx", Including({"a": "use c", "b": "use c", "c": "x"}).new_text("use a\nuse b"))
 
+    def test_program_that_names_itself_without_a_text_of_its_name(self):
+        for once in (False, True):
+            for texts, text, path in (
+                ({}, "use p", ("p", "p")),
+                ({}, "x\n  use  p # c", ("p", "p")),
+                ({"c": "use d\n", "d": ""}, "use c\nuse p", ("p", "p")),
+                ({"b": "use p"}, "use b", ("p", "b", "p")),
+                ({"b": "x\nuse c\n", "c": "use p"}, "x\nuse b", ("p", "b", "c", "p")),
+                # The one that is met first is told.
+                ({"b": "use p\nuse none"}, "use b\nuse p", ("p", "b", "p")),
+                ({"b": "use b"}, "use p\nuse b\nuse none", ("p", "p")),
+            ):
+                fails(self, Ring, "path", path, Including(texts, once=once), text, "p")
+            tool = Including({"b": "use none\nuse p"}, once=once)
+            fails(self, NoText, "given", "none", tool, "use b\nuse p", "p")
+            fails(self, BadProgram, "spot", (1, 0), tool, 'use p\n"', "p")
+            # By another source the same text names nothing of its own.
+            self.assertEqual("x", Including({"b": "use p", "p": "x"}, once=once)("use b", "q")[0])
+
+    def test_first_refusal_by_the_words(self):
+        chance = random.Random(662)
+        counts = {NoText: 0, Ring: 0, None: 0}
+        names = ["a", "b", "c", "p", "q"]
+        for _ in range(600):
+            texts = {name: any_uses(chance, names) for name in chance.sample(names, chance.randrange(5))}
+            text = any_uses(chance, names)
+            error, worth = first_refusal(text, texts, ("p",)) or (None, None)
+            counts[error] += 1
+            for once in (False, True):
+                tool = Including(texts, once=once)
+                if error is None:
+                    tool(text, "p")
+                else:
+                    fails(self, error, {NoText: "given", Ring: "path"}[error], worth, tool, text, "p")
+        self.assertLess(50, min(counts.values()), counts)
+
     def test_no_text(self):
         texts = {"a": "use b\n", "c": "use a"}
         fails(self, NoText, "given", "b", Including(texts), "use a", "p")
         fails(self, NoText, "given", "b", Including(texts), "x\nuse c\nuse d", "p")
         fails(self, NoText, "given", "A", Including(texts), "use A", "p")
-        fails(self, NoText, "given", "p", Including(texts), "use p", "p")
+        fails(self, NoText, "given", "p", Including(texts), "use p", "q")
+        # A source that no word can be, and one that only begins like the word, are not named.
+        fails(self, NoText, "given", "p", Including(texts), "use p", "p/1")
+        fails(self, NoText, "given", "p", Including({"b": "use p"}), "use b", "p/1")
+        fails(self, NoText, "given", "p", Including({"b": "use p"}).new_text, "use b")
         self.assertEqual("x", Including(texts).new_text("x"))
 
     def test_errors_as_they_are_met(self):
